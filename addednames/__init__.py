@@ -1,0 +1,1 @@
+"""Libraries to which names are added, and all callers that see them."""
