@@ -17,6 +17,11 @@ def cuts_off(world, library, keeper, other):
     return other not in _met(world, library, [keeper])
 
 
+def reached_past(world, library, avoided):
+    """The libraries that a library reaches without going over an avoided one; all that it reaches for None."""
+    return [other for other in _met(world, library, [avoided]) if other != avoided]
+
+
 def seen(world, book, library, name):
     """The libraries that are seen from a library for a name, in the order of reached."""
     holders = [other for other in reached(world, library) if name in world.names_of(other)]
@@ -53,9 +58,11 @@ def _check_libraries(world, values):
 def _met(world, library, stops):
     """The libraries on the ways from a library that lead no farther than to a stop."""
     found = [library]
+    known = {library: True}
     at = 0
     while at < len(found):
-        if found[at] not in stops:
-            found.extend([other for other in world.gives_of(found[at]) if other not in found])
+        nearest = [] if found[at] in stops else world.gives_of(found[at])
+        found.extend([other for other in nearest if other not in known])
+        known.update({other: True for other in nearest})
         at = at + 1
     return found

@@ -2,7 +2,7 @@ import unittest
 from itertools import permutations, product
 
 from addednames.books import Book
-from addednames.given import cuts_off, given_names, gives, reached, seen
+from addednames.given import cuts_off, given_names, gives, reached, reached_past, seen
 from addednames.worlds import World
 from support import STRANGE, Greedy, Touchy, expect, expect_error
 
@@ -72,6 +72,20 @@ class ReachedTest(unittest.TestCase):
         world = diamond()
         reached(world, "l").clear()
         expect(self, ["l", "m", "n", "o"], reached(world, "l"))
+
+
+class ReachedPastTest(unittest.TestCase):
+    def test_without_an_avoided_library(self):
+        for world in [diamond(), row(), ring()]:
+            for library in world.library_names():
+                expect(self, reached(world, library), reached_past(world, library, None))
+
+    def test_what_is_cut_off_is_left_out(self):
+        expect(self, ["l", "n", "o"], reached_past(diamond(), "l", "m"))
+        expect(self, ["l", "m", "n"], reached_past(diamond(), "l", "o"))
+        expect(self, ["l", "m"], reached_past(row(), "l", "n"))
+        expect(self, ["n"], reached_past(ring(), "n", "l"))
+        expect(self, [], reached_past(ring(), "n", "n"))
 
 
 class CutsOffTest(unittest.TestCase):

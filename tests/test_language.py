@@ -22,6 +22,7 @@ SIGNS = """init eq repr str len enter exit call iter lt le gt ge ne add sub mul 
 BARRED = """typing typing_extensions enum Enum IntEnum StrEnum Flag IntFlag Generic Protocol ABC ABCMeta namedtuple
     NamedTuple TypedDict TYPE_CHECKING abstractmethod dataclass overload contextmanager register mro elements open
     input law Meta""".split()
+COMPREHENSIONS = (ast.ListComp, ast.SetComp, ast.DictComp)
 STATEMENTS = (
     ast.AsyncFunctionDef, ast.AsyncFor, ast.AsyncWith, ast.Await, ast.Global, ast.Import, ast.AnnAssign,
     ast.NamedExpr, ast.Div, ast.Lambda, ast.GeneratorExp,
@@ -158,6 +159,68 @@ class RowsTest(unittest.TestCase):
                     called = getattr(node.func, "id", getattr(node.func, "attr", ""))
                     if called in ("range", "enumerate", "zip", "reversed", "items", "keys", "values"):
                         self.assertIn(node, told, f"{name}, line {node.lineno}")
+
+
+    def test_no_augmented_assignment(self):
+        for name, node in NODES:
+            self.assertNotIsInstance(node, ast.AugAssign, name)
+
+    def test_what_is_sorted_is_plainly_numbers_or_strings(self):
+        # A class of the package has an order, so the key has to tell of what kind the items are.
+        for name, node in NODES:
+            if isinstance(node, ast.Call) and getattr(node.func, "id", "") in ("sorted", "min", "max"):
+                keys = [ast.unparse(word.value) for word in node.keywords if word.arg == "key"]
+                self.assertEqual(len(keys), 1, f"{name}, line {node.lineno}")
+                self.assertIn(keys[0], ("str", "int", "len"), f"{name}, line {node.lineno}")
+
+    def test_stars_of_calls_stand_before_names(self):
+        for name, node in NODES:
+            if isinstance(node, ast.Call):
+                for value in [*node.args, *[ast.Starred(word.value) for word in node.keywords if word.arg is None]]:
+                    if isinstance(value, ast.Starred):
+                        self.assertIsInstance(value.value, ast.Name, f"{name}, line {node.lineno}")
+
+    def test_generators_are_iterated_at_once(self):
+        made = []
+        for _, node in NODES:
+            if isinstance(node, ast.FunctionDef) and any(isinstance(part, ast.Yield) for part in ast.walk(node)):
+                made.append(node.name)
+        told = [node.iter for _, node in NODES if isinstance(node, (ast.For, ast.comprehension))]
+        for _, node in NODES:
+            if isinstance(node, ast.Call) and getattr(node.func, "id", "") in ("list", "tuple", "enumerate"):
+                told.extend(node.args)
+        for name, node in NODES:
+            if isinstance(node, ast.Call) and getattr(node.func, "id", "") in made:
+                self.assertIn(node, told, f"{name}, line {node.lineno}")
+
+    def test_comprehensions_in_others_have_names_of_their_own(self):
+        for name, node in NODES:
+            if isinstance(node, ast.FunctionDef):
+                own = stored(node.body, COMPREHENSIONS) | {part.arg for part in node.args.args}
+                for part in ast.walk(node):
+                    if isinstance(part, COMPREHENSIONS):
+                        self.check_inner(f"{name}, line {part.lineno}", part, own | assigned(part))
+
+    def check_inner(self, where, outer, around):
+        for inner in ast.walk(outer):
+            if isinstance(inner, COMPREHENSIONS) and inner is not outer:
+                self.assertFalse(assigned(inner) & around, where)
+
+
+def assigned(comprehension):
+    """The names that a comprehension itself assigns."""
+    return stored([part.target for part in comprehension.generators], ())
+
+
+def stored(nodes, barred):
+    """The names that are assigned in some nodes, but not below those of the barred kinds."""
+    found = set()
+    for node in nodes:
+        if isinstance(node, ast.Name) and isinstance(node.ctx, ast.Store):
+            found.add(node.id)
+        if not isinstance(node, barred):
+            found |= stored(ast.iter_child_nodes(node), barred)
+    return found
 
 
 class NamesTest(unittest.TestCase):
