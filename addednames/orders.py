@@ -49,11 +49,11 @@ def calm_order(view, several):
     additions = several.additions
     if len(additions) > MOST_ADDITIONS:
         raise TooMany(MOST_ADDITIONS)
-    behind(view, *additions)
-    orders = {(): []}
-    for _ in additions:
-        orders = _longer_orders(view, additions, orders)
-    return [additions[index] for order in orders.values() for index in order] if orders else None
+    # All orders end with all additions, so none of them has to be tried if these leave the caller wrong.
+    if not is_right(behind(view, *additions)):
+        return None
+    order = _calm_rest(view, additions, tuple(range(len(additions))), {})
+    return None if order is None else [additions[index] for index in order]
 
 
 def _check_behind(view, additions):
@@ -61,18 +61,20 @@ def _check_behind(view, additions):
     behind(view, *additions)
 
 
-def _longer_orders(view, additions, orders):
-    """The first calm order for each set of one addition more, by its indexes; earlier orders come first."""
-    found = {}
-    # Shorter orders come in order, so the first longer one that is met for a set is its first one.
-    for chosen, order in orders.items():
-        for index in range(len(additions)):
-            longer = tuple(sorted([*chosen, index], key=int))
-            if index not in chosen and longer not in found:
-                found[longer] = [*order, index]
-    return {chosen: order for chosen, order in found.items() if _is_calm(view, additions, chosen)}
+def _calm_rest(view, additions, left, barred):
+    """The first calm order of the additions that are left, by their indexes, or None.
 
-
-def _is_calm(view, additions, chosen):
-    rows = [additions[index] for index in chosen]
-    return is_right(behind(view, *rows))
+    The view is the one behind all others. What is left behind a wrong view, or where no order leads on, is
+    barred: it is the same for each order of the others, so it is tried only once.
+    """
+    if len(left) < 2:
+        return list(left)
+    for index in left:
+        rest = tuple([other for other in left if other != index])
+        if rest not in barred:
+            later = behind(view, additions[index])
+            order = _calm_rest(later, additions, rest, barred) if is_right(later) else None
+            if order is not None:
+                return [index, *order]
+            barred[rest] = True
+    return None

@@ -12,7 +12,8 @@ def problems(view):
 
 def is_right(view):
     """Whether a caller has no problems."""
-    return not problems(view)
+    # Each kind of problems is looked for only if there are none of the kinds ahead of it.
+    return not (_import_problems(view) or _once_problems(view) or _mark_problems(view) or _use_problems(view))
 
 
 def check_right(view):

@@ -45,6 +45,10 @@ def defined(tree):
     return found
 
 
+def is_function(node):
+    return isinstance(node, ast.FunctionDef)
+
+
 def imports(tree):
     return [node for node in tree.body if isinstance(node, ast.ImportFrom)]
 
@@ -108,9 +112,19 @@ class RowsTest(unittest.TestCase):
             for node in tree.body[1:]:
                 self.assertIsInstance(node, (ast.ImportFrom, ast.FunctionDef, ast.ClassDef, ast.Assign), name)
                 if isinstance(node, ast.Assign):
-                    ast.literal_eval(node.value)
+                    self.check_value(name, node)
             names = [*defined(tree), *(alias.name for node in imports(tree) for alias in node.names)]
             self.assertEqual(len(names), len(set(names)), name)
+
+    def check_value(self, name, node):
+        """Plain values, and dicts from strings to functions that are defined above."""
+        if not isinstance(node.value, ast.Dict) or not all(isinstance(part, ast.Name) for part in node.value.values):
+            ast.literal_eval(node.value)
+            return
+        above = {part.name for part in TREES[name].body if getattr(part, "lineno", 0) < node.lineno and is_function(part)}
+        for key, part in zip(node.value.keys, node.value.values):
+            self.assertIsInstance(key.value, str, name)
+            self.assertIn(part.id, above, name)
 
     def test_statements(self):
         for name, node in NODES:
@@ -152,7 +166,7 @@ class RowsTest(unittest.TestCase):
         for name, tree in TREES.items():
             told = [node.iter for node in ast.walk(tree) if isinstance(node, (ast.For, ast.comprehension))]
             for node in ast.walk(tree):
-                if isinstance(node, ast.Call) and getattr(node.func, "id", "") in ("list", "sorted", "enumerate"):
+                if isinstance(node, ast.Call) and getattr(node.func, "id", "") in ("list", "tuple", "sorted", "enumerate"):
                     told.extend(node.args)
             for node in ast.walk(tree):
                 if isinstance(node, ast.Call):
@@ -268,12 +282,16 @@ class NamesTest(unittest.TestCase):
                         self.assertIsInstance(ast.literal_eval(value), (int, str, bytes, tuple, type(None)), name)
 
 
+def is_setter(node):
+    return [ast.unparse(sign) for sign in node.decorator_list] == [f"{node.name}.setter"]
+
+
 class ClassesTest(unittest.TestCase):
     def test_methods(self):
         for name, node in NODES:
             if isinstance(node, ast.ClassDef):
                 self.assertEqual(node.decorator_list, [], name)
-                signs = [part.name for part in node.body if isinstance(part, ast.FunctionDef)]
+                signs = [part.name for part in node.body if is_function(part) and not is_setter(part)]
                 self.assertEqual(len(signs), len(set(signs)), f"{name}.{node.name}")
                 for word in signs:
                     if word.startswith("__"):
@@ -286,6 +304,14 @@ class ClassesTest(unittest.TestCase):
             if isinstance(node, ast.FunctionDef):
                 for sign in node.decorator_list:
                     self.assertIn(ast.unparse(sign), ("property", "staticmethod", f"{node.name}.setter"), name)
+
+    def test_the_rows_of_exit_methods(self):
+        for name, node in NODES:
+            if isinstance(node, ast.FunctionDef) and node.name == "__exit__":
+                for part in ast.walk(node):
+                    if isinstance(part, ast.stmt) and part is not node:
+                        self.assertIsInstance(part, (ast.Assign, ast.If, ast.Pass, ast.Return), name)
+                    self.assertNotIsInstance(part, (ast.Call, ast.BinOp, ast.Subscript), name)
 
     def test_no_name_is_a_method_and_an_attribute_of_one_class(self):
         for name, node in NODES:

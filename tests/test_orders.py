@@ -1,11 +1,13 @@
 import random
 import unittest
 from itertools import combinations, permutations
+from unittest.mock import patch
 
+from addednames import orders
 from addednames.additions import Addition
 from addednames.books import Book
 from addednames.callers import Caller
-from addednames.effects import behind, effect, touched_uses
+from addednames.effects import behind, effect, places_for, touched_uses
 from addednames.orders import calm_order, effect_of, showing, steps, touchers
 from addednames.problems import is_right
 from addednames.several import Several
@@ -244,6 +246,78 @@ class CalmOrderTest(unittest.TestCase):
             if all(told[frozenset(order[:many])] for many in range(len(order) + 1)):
                 return [additions[at] for at in order]
         return None
+
+
+class ManyAdditionsTest(unittest.TestCase):
+    """Up to eight additions, and how many sets of them are looked at."""
+
+    def check(self, wanted, one, rows):
+        """The answer is the wanted one; the number of sets of additions that were looked at."""
+        with patch.object(orders, "is_right", side_effect=is_right) as asked:
+            found = calm_order(one, Several(*rows))
+        if wanted is None:
+            expect(self, None, found)
+        else:
+            self.assertIs(type(found), list)
+            self.assertTrue(found == wanted, found and [row.place for row in found])
+        return asked.call_count
+
+    def test_names_that_nothing_uses(self):
+        one = View(Caller(World([("z", [], [], [])]), [("all", "z")]), Book(alls="once"))
+        rows = [Addition(("name", "z", name), index + 1) for index, name in enumerate("abcdefgh")]
+        for many in range(9):
+            # Not each set of additions is looked at, only those on the way.
+            self.assertLessEqual(self.check(rows[:many], one, rows[:many]), 8)
+            self.check(rows[:many][::-1], one, rows[:many][::-1])
+
+    def test_one_that_is_made_right_by_another_one(self):
+        for many in range(7):
+            fresh = FRESH[:many]
+            for at in range(many + 1):
+                rows = [*fresh[:at], FIRST, *fresh[at:]]
+                self.check([*fresh, SECOND, FIRST], view(), [*rows, SECOND])
+                self.check([*fresh[:at], SECOND, FIRST, *fresh[at:]], view(), [*fresh[:at], SECOND, FIRST, *fresh[at:]])
+                self.check([SECOND, *rows], view(), [SECOND, *rows])
+                self.assertLessEqual(self.check(None, view(), rows), 1)
+
+    def test_two_that_are_each_made_right_by_the_other_one(self):
+        # From l, all ways to x lead through y; from m, all ways to y lead through x; both reach the holder o.
+        rows = [("l", ["p"]), ("m", ["q"]), ("p", ["y"]), ("q", ["x"]), ("x", ["y", "o"]), ("y", ["x", "o"]), ("o", [])]
+        libraries = [(name, [("a", 1)] if name == "o" else [], gives, []) for name, gives in rows]
+        one = View(Caller(World(libraries), [("named", "l", "a", "a"), ("named", "m", "a", "b")]), Book())
+        first, second = Addition(("name", "x", "a"), 2), Addition(("name", "y", "a"), 3)
+        words = [effect_of(one, Several(*additions)) for additions in [(first,), (second,), (first, second)]]
+        expect(self, ["breaks", "breaks", "stays"], words)
+        for many in range(7):
+            self.check(None, one, [first, *FRESH[:many], second])
+            self.check(None, one, [*FRESH[:many], second, first])
+
+    def test_views_at_random(self):
+        draw, told = random.Random(68), {}
+        for one in right_views(250, 69, book=Book(order="own=named=all", alls="once")):
+            places = [place for place in places_for(one.caller.world, ["a"]) if place[0] == "name"]
+            chosen = [*places, *list(places_for(one.caller.world, "cde"))][:8]
+            draw.shuffle(chosen)
+            rows = [Addition(place, 1000 + at) for at, place in enumerate(chosen)]
+            # The order in which they stand is the first one of all.
+            calm = all(is_right(behind(one, *rows[:many])) for many in range(len(rows)))
+            wanted = rows if calm and is_right(behind(one, *rows)) else self.by_sets(one, rows)
+            self.check(wanted, one, rows)
+            kind = "none" if wanted is None else "first" if wanted == rows else "other"
+            told[kind, len(rows)] = told.get((kind, len(rows)), 0) + 1
+        self.assertGreater(min(told.get((kind, 8), 0) for kind in ("none", "first", "other")), 3, told)
+
+    def by_sets(self, one, rows):
+        """The first calm order, found by looking at all sets, from larger ones to smaller ones."""
+        every = frozenset(range(len(rows)))
+        rests = {}
+        for many in range(len(rows), -1, -1):
+            for chosen in map(frozenset, combinations(sorted(every), many)):
+                if is_right(behind(one, *[rows[at] for at in sorted(chosen)])):
+                    longer = [[at, *rests[chosen | {at}]] for at in every - chosen if chosen | {at} in rests]
+                    if chosen == every or longer:
+                        rests[chosen] = min(longer, default=[])
+        return [rows[at] for at in rests[frozenset()]] if frozenset() in rests else None
 
 
 class ErrorsTest(unittest.TestCase):
