@@ -29,6 +29,13 @@ def at_once(world, book, libraries, name):
     return sorted([world.names_of(holder)[name] for holder in holders], key=int)
 
 
+def holder_at_once(view, name):
+    """The library that is seen for a name from the imports of all names, if it is the only one."""
+    world = view.caller.world
+    thing = at_once(world, view.book, libraries_of_alls(view.caller), name)[0]
+    return world[thing][1]
+
+
 def all_names(view):
     """The names that the imports of all names give, ascending."""
     world, book = view.caller.world, view.book

@@ -4,8 +4,7 @@ from addednames.effects import behind, effect, touched_uses
 from addednames.errors import NotTouched
 from addednames.given import seen
 from addednames.parts import part_of_imports, part_of_member, part_of_use
-from addednames.problems import at_once, problems
-from addednames.spots import libraries_of_alls
+from addednames.problems import holder_at_once, problems
 from addednames.ways import seen_beside, standing
 
 
@@ -85,8 +84,7 @@ def _reason_of_import(view, addition, index):
 def _reason_of_once(view, addition):
     caller, book = view.caller, view.book
     world, added = caller.world, addition.place[1]
-    thing = at_once(world, book, libraries_of_alls(caller), addition.name)[0]
-    found = world[thing][1]
+    found = holder_at_once(view, addition.name)
     alls = [(index, entry[1]) for index, entry in enumerate(caller.imports) if entry[0] == "all"]
     old = [index for index, library in alls if found in seen_beside(world, book, library, added)]
     new = [index for index, library in alls if added in seen_beside(world, book, library, found)]

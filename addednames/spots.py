@@ -48,6 +48,21 @@ def libraries_of_alls(caller):
     return [entry[1] for entry in caller.imports if entry[0] == "all"]
 
 
+def libraries_behind_alls(caller):
+    """A dict of the libraries that the libraries of all imports of all names reach."""
+    return {library: True for start in libraries_of_alls(caller) for library in reached(caller.world, start)}
+
+
+def common_start(caller, use, one, other):
+    """The library of the use or of the import to which two spots of a use belong; None if there is no such one."""
+    if one[0] == "of":
+        return use[1]
+    # A spot of an import begins with its kind and the index of the import.
+    if one[0] in ("named", "all") and one[:2] == other[:2]:
+        return caller.imports[one[1]][1]
+    return None
+
+
 def _scope_spots(caller, book, scope):
     found = []
     for k, index in enumerate(caller.around(scope)):
@@ -69,7 +84,7 @@ def _import_spots(caller, kind, name):
 
 def _member_spots(caller, name):
     world, owners = caller.world, caller.chain(name)
-    met = {library: True for start in libraries_of_alls(caller) for library in reached(world, start)}
+    met = libraries_behind_alls(caller)
     distances = [d for d, owner in enumerate(owners) if world.has_class(owner)]
     members = [("member", d) for d in range(len(owners))]
     spreads = [("spread", library, d) for library in world.library_names() if library in met for d in distances]

@@ -3,7 +3,8 @@
 from addednames.effects import places_for
 from addednames.errors import UnknownName
 from addednames.given import reached, seen
-from addednames.problems import all_names, at_once, check_right
+from addednames.growth import growing
+from addednames.problems import all_names, check_right, holder_at_once
 from addednames.silences import spot_silences
 from addednames.spots import libraries_of_alls, place_at
 from addednames.ways import are_both_seen, seen_beside, way_past
@@ -58,22 +59,6 @@ def fresh_name(caller):
     return _numbered_name(number)
 
 
-def growing(view, libraries, classes):
-    """A dict of the first two items of all places that may grow, for libraries and classes that grow."""
-    world = view.caller.world
-    libraries = world.library_names() if libraries is None else libraries
-    classes = world.class_names() if classes is None else classes
-    for library in libraries:
-        if not world.has_library(library):
-            raise UnknownName(library)
-    for owner in classes:
-        if not world.has_class(owner):
-            raise UnknownName(owner)
-    starts = [*[("name", one) for one in libraries], *[("spread", one) for one in libraries]]
-    starts.extend([("member", one) for one in classes])
-    return {start: True for start in starts}
-
-
 def _effects(view):
     """A dict from all places at which an addition touches the caller to its effect."""
     rows = [row for index in range(len(view.caller)) for row in _use_effects(view, index)]
@@ -114,11 +99,9 @@ def _import_places(view):
 def _once_places(view):
     if view.book.alls != "once":
         return []
-    world, book, libraries = view.caller.world, view.book, libraries_of_alls(view.caller)
-    found = []
+    libraries, found = libraries_of_alls(view.caller), []
     for name in all_names(view):
-        thing = at_once(world, book, libraries, name)[0]
-        found.extend(_clashing_places(view, libraries, world[thing][1], name))
+        found.extend(_clashing_places(view, libraries, holder_at_once(view, name), name))
     return found
 
 

@@ -59,3 +59,13 @@ def is_named_thing(value):
 def has_twice(values):
     """Whether a list of names, or of tuples of names, has one of them twice."""
     return len(set(values)) < len(values)
+
+
+def is_equal(value, wanted):
+    """Whether any value is equal to a string, an integer or a tuple of such, and of the same kinds throughout."""
+    # Kinds are told first, because True is equal to 1, and because a value of another kind may be equal to everything.
+    if isinstance(wanted, tuple):
+        return is_tuple(value, len(wanted)) and all([is_equal(one, other) for one, other in zip(value, wanted)])
+    if isinstance(wanted, str):
+        return isinstance(value, str) and value == wanted
+    return is_integer(value) and value == wanted

@@ -146,3 +146,14 @@ def all_additions(view, names=(*NAMES, "c")):
     """An addition at each place for some names at which there is no thing."""
     thing = new_thing(view.caller)
     return [Addition(place, thing) for place in places_for(view.caller.world, names)]
+
+
+def draw_growing(draw, world):
+    """Arguments that tell what grows: all, some or nothing, and some names twice."""
+    grown = {}
+    for word, names in [("libraries", world.library_names()), ("classes", world.class_names())]:
+        chosen = [name for name in names if draw.random() < draw.choice((0.3, 0.8))]
+        chosen = [*chosen, *chosen[: draw.randint(0, 2)]]
+        draw.shuffle(chosen)
+        grown[word] = draw.choice((None, chosen, tuple(chosen)))
+    return grown

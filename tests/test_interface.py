@@ -39,6 +39,23 @@ FUNCTIONS = {
         "steps(view, additions)",
         "calm_order(view, several)",
     ],
+    "papers": [
+        "is_safe(view, *, libraries=None, classes=None)",
+        "demands(view, *, libraries=None, classes=None)",
+        "paper(view, *, libraries=None, classes=None)",
+    ],
+    "checker": [
+        "is_fence(world, library, stop, other, value)",
+        "meets(view, demand, value)",
+        "accepts(view, value, *, libraries=None, classes=None)",
+    ],
+    "verdicts": ["apart(first, second)", "least_books(books)"],
+    "moves": [
+        "moves(view)",
+        "moved(view, chosen)",
+        "flaw(view, chosen, *, libraries=None, classes=None)",
+        "least_moves(view, *, libraries=None, classes=None)",
+    ],
 }
 GENERATORS = {"all_books", "places_for", "steps"}
 CLASSES = {
@@ -79,12 +96,24 @@ CLASSES = {
         ],
     },
     "several": {"Several": ["__init__(self, *additions)"]},
+    "verdicts": {"Verdicts": ["__init__(self, book)"]},
+}
+# The signs that the interface uses of each class: all are defined in the class itself.
+SIGNS = {
+    ("additions", "Addition"): "eq",
+    ("worlds", "World"): "len contains getitem add radd eq",
+    ("books", "Book"): "getitem eq",
+    ("callers", "Caller"): "len contains add radd eq",
+    ("views", "View"): "call eq",
+    ("several", "Several"): "len contains getitem or ror and rand sub rsub le lt ge gt eq",
+    ("verdicts", "Verdicts"): "len contains getitem le lt ge gt eq",
 }
 PROPERTIES = {
     ("books", "Book"): ["order", "given", "alls", "bodies", "spreads", "near", "marks"],
     ("callers", "Caller"): ["world", "imports", "own", "classes", "scopes", "uses"],
     ("views", "View"): ["caller", "book"],
     ("several", "Several"): ["additions"],
+    ("verdicts", "Verdicts"): ["book"],
 }
 
 
@@ -114,6 +143,11 @@ class InterfaceTest(unittest.TestCase):
                 self.assertEqual(found.__module__, f"addednames.{file}")
                 for row in rows:
                     self.check(found, row)
+
+    def test_signs(self):
+        for (file, name), words in SIGNS.items():
+            for word in words.split():
+                self.assertTrue(inspect.isfunction(vars(vars(module(file))[name]).get(f"__{word}__")), f"{name}, {word}")
 
     def test_properties(self):
         for (file, name), rows in PROPERTIES.items():

@@ -6,6 +6,7 @@ from addednames.additions import Addition
 from addednames.books import Book
 from addednames.callers import Caller
 from addednames.effects import effect, new_thing, places_for
+from addednames.papers import is_safe
 from addednames.problems import problems
 from addednames.touching import fresh_name, risk_ways, risks, touching, touching_names
 from addednames.views import View
@@ -328,8 +329,8 @@ class ExampleTest(unittest.TestCase):
         caller = Caller(world, [("all", "l")], uses=[("name", None, "a")])
         one = View(caller, Book(alls="once"))
         expect(self, [(("name", "l", "a"), "changes"), (("name", "n", "a"), "breaks")], touching(one))
-        told = [risks(one), risk_ways(one, "n", "m")]
-        expect(self, [[("m", "n")], ((0, ["l", "n"]), (0, ["l", "m"]))], told)
+        told = [risks(one), risk_ways(one, "n", "m"), is_safe(one), is_safe(one, libraries=["m"])]
+        expect(self, [[("m", "n")], ((0, ["l", "n"]), (0, ["l", "m"])), False, True], told)
 
 
 if __name__ == "__main__":
