@@ -56,6 +56,14 @@ FUNCTIONS = {
         "flaw(view, chosen, *, libraries=None, classes=None)",
         "least_moves(view, *, libraries=None, classes=None)",
     ],
+    "texts": [
+        "write(view)",
+        "read(text)",
+        "write_book(book)",
+        "read_book(text)",
+        "write_place(place)",
+        "read_place(text)",
+    ],
 }
 GENERATORS = {"all_books", "places_for", "steps"}
 CLASSES = {
@@ -97,6 +105,19 @@ CLASSES = {
     },
     "several": {"Several": ["__init__(self, *additions)"]},
     "verdicts": {"Verdicts": ["__init__(self, book)"]},
+    "notes": {"Notes": ["__init__(self)", "listed(self)"]},
+    "sessions": {
+        "Session": [
+            "__init__(self, view)",
+            "add(self, place)",
+            "apply(self, chosen)",
+            "rebook(self, book)",
+            "undo(self)",
+            "trial(self, *, keep=False)",
+            "attempt(self, deeds, *, keep=True)",
+        ],
+    },
+    "console": {"Console": ["__init__(self)", "run(self, line)"]},
 }
 # The signs that the interface uses of each class: all are defined in the class itself.
 SIGNS = {
@@ -107,6 +128,7 @@ SIGNS = {
     ("views", "View"): "call eq",
     ("several", "Several"): "len contains getitem or ror and rand sub rsub le lt ge gt eq",
     ("verdicts", "Verdicts"): "len contains getitem le lt ge gt eq",
+    ("notes", "Notes"): "len contains getitem setitem",
 }
 PROPERTIES = {
     ("books", "Book"): ["order", "given", "alls", "bodies", "spreads", "near", "marks"],
@@ -114,6 +136,7 @@ PROPERTIES = {
     ("views", "View"): ["caller", "book"],
     ("several", "Several"): ["additions"],
     ("verdicts", "Verdicts"): ["book"],
+    ("sessions", "Session"): ["view", "caller", "rulebook", "notes", "added"],
 }
 
 
