@@ -34,7 +34,8 @@ class Trial:
 
     def __init__(self, session, keep):
         self._session = session
-        self._keep = keep
+        # None stands for False, because the rows of __exit__ ask an attribute for None alone.
+        self._kept = True if keep else None
         self._start = None
 
     def __enter__(self):
@@ -45,7 +46,7 @@ class Trial:
 
     def __exit__(self, kind, value, trace):
         session = self._session
-        if not self._keep or kind is not None:
+        if self._kept is None or kind is not None:
             session._state = self._start
 
 

@@ -286,6 +286,20 @@ def is_setter(node):
     return [ast.unparse(sign) for sign in node.decorator_list] == [f"{node.name}.setter"]
 
 
+def asks_for_none(test):
+    """Whether a test asks nothing but whether names and attributes are None."""
+    if isinstance(test, ast.BoolOp):
+        return all(asks_for_none(part) for part in test.values)
+    if isinstance(test, ast.UnaryOp):
+        return isinstance(test.op, ast.Not) and asks_for_none(test.operand)
+    if not isinstance(test, ast.Compare) or len(test.ops) != 1 or not isinstance(test.ops[0], (ast.Is, ast.IsNot)):
+        return False
+    asked, wanted = test.left, test.comparators[0]
+    while isinstance(asked, ast.Attribute):
+        asked = asked.value
+    return isinstance(asked, ast.Name) and isinstance(wanted, ast.Constant) and wanted.value is None
+
+
 class ClassesTest(unittest.TestCase):
     def test_methods(self):
         for name, node in NODES:
@@ -312,6 +326,27 @@ class ClassesTest(unittest.TestCase):
                     if isinstance(part, ast.stmt) and part is not node:
                         self.assertIsInstance(part, (ast.Assign, ast.If, ast.Pass, ast.Return), name)
                     self.assertNotIsInstance(part, (ast.Call, ast.BinOp, ast.Subscript), name)
+
+    def test_what_exit_methods_and_finally_blocks_ask(self):
+        # Classes of the package have __eq__ and __len__, so that nothing is asked but whether something is None.
+        rows = []
+        for _, node in NODES:
+            if is_function(node) and node.name == "__exit__":
+                rows.extend(node.body)
+            if isinstance(node, ast.Try):
+                rows.extend(node.finalbody)
+        for row in rows:
+            for part in ast.walk(row):
+                self.assertNotIsInstance(part, ast.IfExp, ast.unparse(row))
+                if isinstance(part, ast.If):
+                    self.assertTrue(asks_for_none(part.test), ast.unparse(part.test))
+
+    def test_that_other_questions_are_found(self):
+        for text in ("self.a is None or kind is not None", "not a is None", "not (a is None and self.b.c is not None)"):
+            self.assertTrue(asks_for_none(ast.parse(text, mode="eval").body), text)
+        for text in ("self.a", "not self.a or kind is not None", "a == 1", "a is True", "a", "a() is None", "None is a",
+                     "a is None is not None", "a[0] is None", "a is b"):
+            self.assertFalse(asks_for_none(ast.parse(text, mode="eval").body), text)
 
     def test_no_name_is_a_method_and_an_attribute_of_one_class(self):
         for name, node in NODES:

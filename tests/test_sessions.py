@@ -301,6 +301,127 @@ class TrialTest(Base):
                 self.check(session, start, added, [("p", PLACE)])
                 self.check_undo(session, [(view(), [])])
 
+    def changes(self, start):
+        """Tuples of a change in a block, the view behind it, and the additions that it makes."""
+
+        def assign(session):
+            session.rulebook = Book.strict()
+
+        addition = Addition(PLACE, 4)
+        return [
+            (lambda session: None, start, []),
+            (lambda session: session.add(PLACE), View(start.caller + addition, start.book), [addition]),
+            (lambda session: session.apply([("spell", 0)]), moved(start, [("spell", 0)]), []),
+            (lambda session: session.rebook(Book.late()), View(start.caller, Book.late()), []),
+            (assign, View(start.caller, Book.strict()), []),
+            (lambda session: session.attempt([("add", PLACE)]), View(start.caller + addition, start.book), [addition]),
+        ]
+
+    def leave(self, session, change, error, **words):
+        """Makes a change and a note in the block of a trial, which ends alone or by an error; the error goes on."""
+        try:
+            with session.trial(**words):
+                change(session)
+                session.notes["p"] = PLACE
+                if error is not None:
+                    raise error
+        except BaseException as caught:
+            self.assertIs(caught, error)
+            return
+        self.assertIsNone(error)
+
+    def test_each_end_of_a_block_behind_each_change(self):
+        errors = (None, KeyError("a"), BadCommand("a"), NothingToUndo(), FailedDeed(0), StopIteration(), GeneratorExit())
+        for number in range(6):
+            for words in ({}, {"keep": False}, {"keep": True}):
+                for error in errors:
+                    session, start, added = self.begun()
+                    session.notes["o"] = ("name", "n", "b")
+                    change, later, more = self.changes(start)[number]
+                    self.leave(session, change, error, **words)
+                    notes = [("o", ("name", "n", "b")), ("p", PLACE)]
+                    kept = words.get("keep", False) and error is None
+                    if kept:
+                        self.check(session, later, [*added, *more], notes)
+                        if number:
+                            session.undo()
+                    # Behind the undo of what was kept, or at once, the session is as at the block's beginning.
+                    self.check(session, start, added, notes)
+                    self.check_undo(session, [(view(), [])])
+
+    def test_what_is_taken_back_in_a_block_that_ends_in_each_way(self):
+        for keep in (True, False):
+            for error in (None, ValueError("a"), KeyboardInterrupt()):
+                session, start, added = self.begun()
+                self.leave(session, Session.undo, error, keep=keep)
+                if keep and error is None:
+                    self.check(session, view(), [], [("p", PLACE)])
+                    self.check_undo(session, [])
+                else:
+                    self.check(session, start, added, [("p", PLACE)])
+                    self.check_undo(session, [(view(), [])])
+
+    def test_each_end_of_a_block_within_another(self):
+        rows = [(keep, error) for keep in (True, False) for error in (None, ValueError("a"))]
+        for outer, last in rows:
+            for inner, first in rows:
+                session, start, added = self.begun()
+
+                def change(session):
+                    session.rebook(Book.late())
+                    self.leave(session, lambda held: held.add(PLACE), first, keep=inner)
+                    # The inner block leaves what the outer one did ahead of it.
+                    grown = [Addition(PLACE, 4)] if inner and first is None else []
+                    caller = start.caller + grown[0] if grown else start.caller
+                    self.check(session, View(caller, Book.late()), [*added, *grown], [("p", PLACE)])
+
+                self.leave(session, change, last, keep=outer)
+                if outer and last is None:
+                    self.assertTrue(session.rulebook == Book.late())
+                    self.assertEqual(len(session.added), 2 if inner and first is None else 1)
+                else:
+                    self.check(session, start, added, [("p", PLACE)])
+                    self.check_undo(session, [(view(), [])])
+
+    def test_an_error_of_a_block_ends_both_blocks(self):
+        for outer in (True, False):
+            for inner in (True, False):
+                session, start, added = self.begun()
+                error = ValueError("a")
+                with self.assertRaises(ValueError) as caught:
+                    with session.trial(keep=outer):
+                        session.rebook(Book.late())
+                        with session.trial(keep=inner):
+                            session.add(PLACE)
+                            raise error
+                self.assertIs(caught.exception, error)
+                self.check(session, start, added)
+                self.check_undo(session, [(view(), [])])
+
+    def test_a_second_use_behind_each_end(self):
+        for keep in (True, False):
+            for error in (None, ValueError("a")):
+                session, start, added = self.begun()
+                trial = session.trial(keep=keep)
+                try:
+                    with trial:
+                        session.add(PLACE)
+                        if error is not None:
+                            raise error
+                except ValueError:
+                    pass
+                before, entered = state(session), []
+                for _ in range(2):
+                    with self.assertRaises(RuntimeError):
+                        with trial:
+                            entered.append(True)
+                    self.assertEqual(entered, [])
+                    self.assertTrue(state(session) == before)
+                # Another trial of the session serves for a block of its own.
+                with session.trial(keep=keep):
+                    session.rebook(Book.late())
+                self.assertTrue(session.rulebook == (Book.late() if keep else Book()))
+
     def test_what_was_taken_back_in_the_block(self):
         session, start, added = self.begun()
         with session.trial():
