@@ -5,6 +5,7 @@ from addednames.errors import BadMove, TooMany
 from addednames.given import seen
 from addednames.growth import growing
 from addednames.problems import check_right, problems
+from addednames.questions import least_sets, questions
 from addednames.spots import place_at
 from addednames.touching import risks, touching
 from addednames.views import View
@@ -35,20 +36,15 @@ def flaw(view, chosen, *, libraries=None, classes=None):
 
 def least_moves(view, *, libraries=None, classes=None):
     """The good sets of moves no proper part of which is good; smaller ones first."""
-    growing(view, libraries, classes)
+    grown = growing(view, libraries, classes)
     check_right(view)
-    plan, results = _plan(view), view.results()
+    plan = _plan(view)
     rows = _listed(plan)
     if len(rows) > MOST_MOVES:
         raise TooMany(MOST_MOVES)
-    grown, good = {"libraries": libraries, "classes": classes}, []
-    for indexes in _index_sets(len(rows)):
-        # A set is told behind all of its parts, because these are smaller.
-        if not any([all([index in indexes for index in part]) for part in good]):
-            later = _behind_moves(view, plan, [rows[index] for index in indexes])
-            if _flaw_behind(results, later, grown) is None:
-                good.append(indexes)
-    return [tuple([rows[index] for index in part]) for part in good]
+    bits = {move: 1 << number for number, move in enumerate(rows[::-1])}
+    found = least_sets(list(bits.values()), questions(view, plan, bits, grown))
+    return [tuple([move for move in rows if bits[move] & chosen]) for chosen in found]
 
 
 def _plan(view):
@@ -147,12 +143,3 @@ def _flaw_behind(results, later, grown):
         return ("touched", *touched[0])
     pairs = risks(later, **grown)
     return ("risk", *pairs[0]) if pairs else None
-
-
-def _index_sets(many):
-    """All sets of indexes below a number, as ascending tuples: smaller ones first, then by their indexes."""
-    found, sized = [()], [()]
-    for _ in range(many):
-        sized = [(*row, index) for row in sized for index in range(many) if not row or row[-1] < index]
-        found.extend(sized)
-    return found

@@ -64,7 +64,7 @@ def _effects(view):
     rows = [row for index in range(len(view.caller)) for row in _use_effects(view, index)]
     effects = {place: word for place, word in rows}
     broken = [place for place, word in rows if word == "breaks"]
-    for place in [*broken, *_import_places(view), *_once_places(view), *_mark_places(view)]:
+    for place in [*broken, *_import_places(view), *_once_places(view), *mark_places(view)]:
         effects[place] = "breaks"
     return effects
 
@@ -92,7 +92,7 @@ def _import_places(view):
     for entry in view.caller.imports:
         if entry[0] == "named":
             holder = seen(world, book, entry[1], entry[2])[0]
-            found.extend(_clashing_places(view, [entry[1]], holder, entry[2]))
+            found.extend(clashing_places(view, [entry[1]], holder, entry[2]))
     return found
 
 
@@ -101,11 +101,11 @@ def _once_places(view):
         return []
     libraries, found = libraries_of_alls(view.caller), []
     for name in all_names(view):
-        found.extend(_clashing_places(view, libraries, holder_at_once(view, name), name))
+        found.extend(clashing_places(view, libraries, holder_at_once(view, name), name))
     return found
 
 
-def _clashing_places(view, libraries, holder, name):
+def clashing_places(view, libraries, holder, name):
     """The places of a name that, behind an addition, is seen there and at its holder."""
     world, book = view.caller.world, view.book
     others = {other: True for library in libraries for other in reached(world, library)}
@@ -113,7 +113,8 @@ def _clashing_places(view, libraries, holder, name):
     return [("name", other, name) for other in free if are_both_seen(world, book, libraries, holder, other)]
 
 
-def _mark_places(view):
+def mark_places(view):
+    """The places of members that an own member, which is not marked, would hide behind an addition."""
     if not view.book.marks:
         return []
     caller, found = view.caller, []

@@ -6,6 +6,7 @@ from addednames.additions import Addition
 from addednames.books import ORDERS, Book
 from addednames.callers import Caller
 from addednames.effects import new_thing, places_for
+from addednames.moves import moves
 from addednames.problems import problems
 from addednames.views import View
 from addednames.worlds import World
@@ -135,6 +136,34 @@ def draw_right_view(draw, **fixed):
 def right_views(many, seed, **fixed):
     draw = random.Random(seed)
     return [draw_right_view(draw, **fixed) for _ in range(many)]
+
+
+def draw_moving_view(draw, least=3, **fixed):
+    """A view of a right caller with at least so many moves, and at most eight, of which often several use one name."""
+    while True:
+        things = Things(draw)
+        world = draw_world(draw, things, libraries=draw.choice(("lm", "lmn", "lmno")))
+        imports = [draw_import(draw, world) for _ in range(draw.randint(1, 6))]
+        classes = draw_classes(draw, things, world)
+        parts = {"own": things.named(0.15), "classes": classes, "scopes": draw_scopes(draw, things, classes)}
+        book = draw_book(draw, **fixed)
+        found = problems(View(Caller(world, imports, **parts), book))
+        imports = [row for index, row in enumerate(imports) if ("import", index) not in found]
+        if any(row[0] == "once" for row in found):
+            alls = [index for index, row in enumerate(imports) if row[0] == "all"]
+            imports = [row for index, row in enumerate(imports) if index not in alls[1:]]
+        caller = Caller(world, imports, **parts)
+        uses = all_uses(caller)
+        uses = [use for use, result in zip(uses, View(caller.with_uses(uses), book).results()) if result[0] == "found"]
+        if uses:
+            view = View(caller.with_uses([draw.choice(uses) for _ in range(draw.randint(1, 8))]), book)
+            if not problems(view) and least <= len(moves(view)) <= 8:
+                return view
+
+
+def moving_views(many, seed, **fixed):
+    draw = random.Random(seed)
+    return [draw_moving_view(draw, **fixed) for _ in range(many)]
 
 
 def views(many, seed, **fixed):
